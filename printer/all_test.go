@@ -119,7 +119,7 @@ func TestNear(t *testing.T) {
 	}
 }
 
-// P13.1 to P13.4: all arenas of two nodes, and some of three.
+// P13.1 to P13.4: small arenas: nodes of each kind, of a few Texts and with short lists, alone and ahead of one or two others.
 func TestShort(t *testing.T) {
 	t.Parallel()
 	var some []api.Tree
